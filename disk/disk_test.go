@@ -89,7 +89,7 @@ func TestWriteReadSync(t *testing.T) {
 		}
 	}
 	for _, c := range [][2]int{{2, 0}, {0, 4}, {0, -1}, {1, 2}} {
-		if b, err := d.Read(uint8(c[0]), c[1]); b != nil || err != api.ErrDiskNone {
+		if b, err := d.Read(uint8(c[0]), c[1]); len(b) != 0 || err != api.ErrDiskNone {
 			t.Errorf("Read(%d, %d)", c[0], c[1])
 		}
 		if d.Waits(uint8(c[0]), c[1]) != 0 {
