@@ -107,13 +107,16 @@ func TestCycleOfMany(t *testing.T) {
 		t.Errorf("Cycle: %v", got)
 	}
 	l = nil
-	const n = 100000
+	const n = 300000
 	for i := range uint32(n) {
 		l = append(l, api.Edge{From: i, To: (i + 1) % n})
 	}
-	if got := knot.Cycle(l, 5); len(got) != n {
+	if got := knot.Cycle(l, 5); len(got) != n || got[0] != 5 || got[n-1] != 4 {
 		t.Errorf("a great ring: %d", len(got))
 	}
+	l[4].To = 9 // it comes back to 9, not to 5
+	ring(t, l, 5)
+	ring(t, append(l, edges(5, n, n, 5)...), 5, 5, n)
 }
 
 func TestVictim(t *testing.T) {
