@@ -320,3 +320,16 @@ func TestChainsThatAreNone(t *testing.T) {
 	m.Change(n, 13, 0, true, []byte{1, 77, 0, 0, 0})
 	chain(t, m, 0, 0, 1, 2, 3, 4, 5, 6, 7, 8, 9, 10, 11, 12, 13)
 }
+
+// Reading makes no page other than on the disk.
+func TestReadingChangesNothing(t *testing.T) {
+	m := setup(t, 12)
+	m.Pool().WriteAll()
+	alloc.Fresh(m)
+	alloc.Link(m, 5)
+	alloc.Chain(m, 9)
+	alloc.Setup(m)
+	if l := m.Pool().Dirty(); len(l) != 0 {
+		t.Errorf("Dirty: %v", l)
+	}
+}

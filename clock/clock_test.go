@@ -109,6 +109,12 @@ func TestFreeFramesGoFirst(t *testing.T) {
 	pick(t, c, 1)
 	pick(t, c, 2)
 	pick(t, c, 3)
+	pick(t, c, 0)
+	c.Leave(0)
+	pick(t, c, 0) // the lowest one, though the hand is at 1
+	pick(t, c, 0)
+	c.Leave(2)
+	pick(t, c, 0)
 }
 
 func TestHand(t *testing.T) {

@@ -557,3 +557,32 @@ func TestNobodyWaitsForEver(t *testing.T) {
 		}
 	}
 }
+
+// Errors of the store are answered, and the session keeps its transaction.
+func TestStoreErrors(t *testing.T) {
+	d := made(t, 64, 20, 2)
+	does(t, d, 0, req(api.ReqBegin), a(2))
+	does(t, d, 0, op(api.OpOpen, 1, 0), a(1))
+	does(t, d, 0, req(api.ReqMark), a(0))
+	does(t, d, 0, op(api.OpOpen, 2, 0), a(2))
+	log := d.Store().Manager().Log()
+	for log.Room() >= 27 {
+		log.Append(api.Rec{Kind: api.RecCheck}, 0)
+	}
+	for _, r := range []api.Request{req(api.ReqBack), req(api.ReqCommit), req(api.ReqAbort)} {
+		does(t, d, 0, r, fail(api.ErrWalFull))
+		state(t, d, 0, api.DeskOpen)
+		if d.Txn(0) != 2 || len(d.Dones()) != 0 {
+			t.Errorf("%v ended the transaction", r)
+		}
+	}
+	d = made(t, 64, 20, 2)
+	does(t, d, 0, req(api.ReqBegin), a(2))
+	does(t, d, 0, op(api.OpOpen, 1, 0), a(1))
+	d.Store().Abort(2) // behind the desk's back
+	does(t, d, 0, req(api.ReqMark), fail(api.ErrTxnNone))
+	does(t, d, 0, op(api.OpLook, 9, 0), fail(api.ErrRuleNone))
+	does(t, d, 0, op(api.OpOpen, 9, 0), fail(api.ErrTxnNone))
+	does(t, d, 0, req(api.ReqCommit), fail(api.ErrTxnNone))
+	state(t, d, 0, api.DeskOpen)
+}

@@ -257,3 +257,22 @@ func TestAnyUse(t *testing.T) {
 		find(t, x, k, want[k], true)
 	}
 }
+
+// Reading, and what fails, makes no page other than on the disk.
+func TestReadingChangesNothing(t *testing.T) {
+	m, x := made(t, 12)
+	n, _ := m.Begin()
+	k := inBucket(3, 2)
+	x.Add(n, k[0], rid(9, 1))
+	m.Commit(n)
+	m.Pool().WriteAll()
+	find(t, x, k[0], rid(9, 1), true)
+	x.All()
+	x.Add(n, k[0], rid(9, 2))
+	x.Add(n, k[1], rid(9, 2))
+	x.Drop(n, k[0])
+	x.Drop(n, k[1])
+	if l := m.Pool().Dirty(); len(l) != 0 {
+		t.Errorf("Dirty: %v", l)
+	}
+}

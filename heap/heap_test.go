@@ -212,3 +212,20 @@ func TestChainThatIsNone(t *testing.T) {
 		t.Errorf("All: %v, %v", l, err)
 	}
 }
+
+// Reading, and what fails, makes no page other than on the disk.
+func TestReadingChangesNothing(t *testing.T) {
+	m, h := made(t, 12)
+	n, _ := m.Begin()
+	insert(t, h, n, 1, rid(9, 1))
+	m.Commit(n)
+	m.Pool().WriteAll()
+	holds(t, h, rid(9, 1), 1)
+	h.All()
+	h.Insert(n, record(2))
+	h.Set(n, rid(9, 1), record(2))
+	h.Clear(n, rid(9, 1))
+	if l := m.Pool().Dirty(); len(l) != 0 {
+		t.Errorf("Dirty: %v", l)
+	}
+}

@@ -76,6 +76,9 @@ func TestRequests(t *testing.T) {
 		"step 1", "reply 0 2 0 0", "step 1", "step 1", "reply 0 5 0 0", "reply 151 0 0 0", "cell 1 5 0 0 0")
 	behind(t, []string{"begin 4294967296", "step 4294967296", "begin 9223372036854775808", "take 4294967296"}, "step 0")
 	behind(t, []string{"send 0 0100000000000000000000000000000000000000000000000000000000000000000000000000", "step 0", "take 0"}, "step 1", "reply 0 2 0 0")
+	behind(t, with(first, "send 0 020000000001fedcba98000000000000000000000000000000000000000000000000", "step 0", "take 0", "send 0 0200000000011032547600000000000000000000000000000000000000000000000000000000", "step 0", "take 0"),
+		"step 1", "reply 0 2 0 0", "step 0", "reply 230 0 0 0", "step 1", "reply 0 1985229328 0 0")
+	behind(t, with(first, "send 0 020000000001fedcba9800000000000000000000000000000000000000000000000000000000", "step 0", "take 0"), "step 1", "reply 0 2 0 0", "step 1", "reply 0 2562383102 0 0")
 	behind(t, []string{"send 0 -", "send 0 0aff", "send 7 00", "take 0"}, "reply 230 0 0 0", "reply 230 0 0 0")
 }
 

@@ -266,6 +266,7 @@ func TestRead(t *testing.T) {
 		"too many bytes":                append(bytes.Clone(good), 0),
 		"few noughts":                   make([]byte, 447),
 		"COUNT less":                    put(12, 4),
+		"COUNT of nothing":              append(append(append(make([]byte, 12), 1, 0, 192, 1), make([]byte, 432)...), nil...),
 		"COUNT more":                    put(12, 6),
 		"COUNT much more":               put(12, 41),
 		"COUNT greatest":                put(12, 65535),
@@ -371,5 +372,25 @@ func TestAnyUse(t *testing.T) {
 				t.Fatal("Slots")
 			}
 		}
+	}
+}
+
+// Data are moved together only if there is too little room ahead of LOW.
+func TestJustEnoughRoom(t *testing.T) {
+	for more := range 2 {
+		p := page.New(7)
+		for slot := range 6 {
+			set(t, p, slot, of(60, byte(slot+1)))
+		}
+		p.Clear(0) // LOW is 88; a list of seven slots ends at 44
+		set(t, p, 6, of(44+more, 9))
+		want := 44
+		if more == 1 {
+			want = 448 - 300 - 45
+		}
+		if word(p, 16+4*6) != want {
+			t.Errorf("%d bytes stand at %d, not %d", 44+more, word(p, 16+4*6), want)
+		}
+		check(t, p)
 	}
 }

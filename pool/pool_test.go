@@ -452,3 +452,15 @@ func TestAnyCrash(t *testing.T) {
 		}
 	}
 }
+
+// A page that is got again was used.
+func TestGetTouches(t *testing.T) {
+	p := poolOn(t, logOn(t, device(6)), 6, 3)
+	for _, n := range []uint32{0, 1, 2, 3, 1, 4} {
+		get(t, p, n)
+		p.Put(n, 0)
+	}
+	if !same(p.At(), []int{3, 1, 4}) {
+		t.Errorf("At: %v", p.At())
+	}
+}

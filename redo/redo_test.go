@@ -504,3 +504,74 @@ func TestCallsOfARestart(t *testing.T) {
 		t.Error("a restart makes too many calls")
 	}
 }
+
+// lay appends records, each with its change, and makes them last.
+func lay(t *testing.T, m *txn.Manager, l ...api.Rec) []uint64 {
+	t.Helper()
+	var places []uint64
+	for _, r := range l {
+		place, err := m.Log().Append(r, 0)
+		if err != api.OK {
+			t.Fatalf("Append: %v", err)
+		}
+		places = append(places, place)
+	}
+	m.Log().Flush(1 << 60)
+	return places
+}
+
+// All that had committed, and not ended, end so; none of them is undone.
+func TestSeveralThatHadCommitted(t *testing.T) {
+	m := made(t, 64)
+	for n := uint32(1); n <= 3; n++ {
+		begin(t, m)
+		change(t, m, n, n, 0, "a")
+	}
+	for _, n := range []uint32{3, 1, 2} {
+		lay(t, m, api.Rec{Kind: api.RecCommit, Txn: n, Prev: m.Active()[n-1].Last})
+	}
+	d := m.Log().Dev()
+	d.Crash(nil)
+	m, r := restart(t, d)
+	report(t, r, []uint32{3, 1, 2}, nil, 3, 0)
+	for page := uint32(1); page <= 3; page++ {
+		holds(t, m, page, 0, "a")
+	}
+}
+
+// A page lacks only what its First says, and nesting clears nothing.
+func TestRedoFromFirst(t *testing.T) {
+	m := made(t, 64)
+	places := lay(t, m,
+		api.Rec{Kind: api.RecChange, Txn: 1, Change: api.Change{Page: 2, Has: true, After: []byte("early")}},
+		api.Rec{Kind: api.RecChange, Txn: 1, Change: api.Change{Page: 2, Slot: 1, Has: true, After: []byte("late")}},
+		api.Rec{Kind: api.RecChange, Txn: 1, Change: api.Change{Page: 4, Has: true, After: []byte("not told")}},
+		api.Rec{Kind: api.RecChange, Txn: 1, Change: api.Change{Page: 0, Has: true, After: []byte("first")}},
+		api.Rec{Kind: api.RecUndo, Txn: 1},
+		api.Rec{Kind: api.RecCheck})
+	lay(t, m, api.Rec{Kind: api.RecTables, Pages: []api.Dirty{{Page: 0, First: 1}, {Page: 2, First: places[1]}}})
+	m.Log().Mark(places[5])
+	d := m.Log().Dev()
+	d.Crash(nil)
+	m, r := restart(t, d)
+	report(t, r, nil, nil, 2, 0)
+	holds(t, m, 0, 0, "first")
+	holds(t, m, 2, 0, "")
+	holds(t, m, 2, 1, "late")
+	holds(t, m, 4, 0, "")
+}
+
+// Of several with the same Undo the lowest number is first.
+func TestLowestNumberFirst(t *testing.T) {
+	m := made(t, 64)
+	places := lay(t, m, api.Rec{Kind: api.RecCheck}, api.Rec{Kind: api.RecTables, Txns: []api.Active{
+		{Txn: 9, State: api.TxnAborts}, {Txn: 5, State: api.TxnRuns}, {Txn: 7, Undo: 3, State: api.TxnRuns}, {Txn: 8, State: api.TxnAborts}}})
+	m.Log().Mark(places[0])
+	d := m.Log().Dev()
+	d.Crash(nil)
+	m, r := restart(t, d)
+	report(t, r, nil, []uint32{7, 5, 8, 9}, 0, 0)
+	if m.Next() != 1 {
+		t.Errorf("NEXT: %d", m.Next())
+	}
+}

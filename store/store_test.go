@@ -309,3 +309,38 @@ func TestAnyUse(t *testing.T) {
 		}
 	}
 }
+
+// Behind its end a transaction keeps no places, neither of records nor of keys.
+func TestPlacesAreGivenFree(t *testing.T) {
+	s := made(t, 14)
+	var keys []api.Key
+	for who := uint32(1); len(keys) < 3; who++ {
+		if k := key(1, who, 0); hash.Bucket(k) == 4 {
+			keys = append(keys, k)
+		}
+	}
+	slot := func(page uint32, at int) bool {
+		p, _ := s.Manager().Pool().Get(page)
+		_, ok := p.Get(at)
+		s.Manager().Pool().Put(page, 0)
+		return ok
+	}
+	n := begin(t, s)
+	is(t, "Put", s.Put(n, []api.Put{put(keys[0], 1, 0)}), api.OK)
+	is(t, "Commit", s.Commit(n), api.OK)
+	n = begin(t, s)
+	is(t, "Put", s.Put(n, []api.Put{gone(keys[0])}), api.OK)
+	other := begin(t, s)
+	is(t, "Put", s.Put(other, []api.Put{put(keys[1], 1, 0)}), api.OK)
+	if slot(4, 1) || !slot(4, 2) || slot(9, 1) || !slot(9, 2) {
+		t.Error("a place is kept till its transaction has ended")
+	}
+	is(t, "Commit", s.Commit(n), api.OK)
+	is(t, "Put", s.Put(other, []api.Put{put(keys[2], 1, 0)}), api.OK)
+	if !slot(4, 1) || slot(4, 3) || !slot(9, 1) || slot(9, 3) {
+		t.Error("a place is free behind its transaction's end")
+	}
+	if s.Commit(n) != api.ErrTxnNone || s.Abort(n) != api.ErrTxnNone {
+		t.Error("an end twice")
+	}
+}

@@ -17,7 +17,7 @@ type change struct {
 	bytes uint64
 }
 
-// changes are those of a transaction that are not undone, by rising places.
+// changes are those of a transaction that are not undone.
 type changes []change
 
 // has says whether one of them has this place.
@@ -75,7 +75,6 @@ func onTheWay(log *wal.Log, at uint64) changes {
 		case err == api.OK && r.Kind == api.RecUndo:
 			at = ahead(r.Next, at)
 		default:
-			slices.Reverse(l)
 			return l
 		}
 	}

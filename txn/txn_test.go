@@ -141,9 +141,11 @@ func TestBeginNeedsRoom(t *testing.T) {
 	m := made(t, 8, 4, 3) // 1016 bytes
 	n := 0
 	for {
-		_, err := m.Begin()
+		got, err := m.Begin()
 		if err != api.OK {
-			is(t, "Begin", err, api.ErrWalFull)
+			if is(t, "Begin", err, api.ErrWalFull); got != 0 {
+				t.Errorf("Begin: %d beside an error", got)
+			}
 			break
 		}
 		n++
@@ -479,6 +481,11 @@ func TestFullLog(t *testing.T) {
 	}
 	for page := range uint32(4) {
 		free(t, m, page)
+		p, _ := m.Pool().Get(page)
+		if want := uint64(28 + 37*(n-4+int(page))); p.LSN() != want {
+			t.Errorf("page %d is as of %d, not %d", page, p.LSN(), want)
+		}
+		m.Pool().Put(page, 0)
 	}
 	holds(t, m, uint32(n%4), n/4, "")
 	active(t, m, uint64(28+37*(n-1)), uint64(28+37*(n-1)), api.TxnRuns)
@@ -510,6 +517,10 @@ func TestLogThatOthersFill(t *testing.T) {
 	}
 	free(t, m, 0)
 	holds(t, m, 0, 0, "a")
+	if p, _ := m.Pool().Get(0); p.LSN() != 28 {
+		t.Errorf("the page is as of %d", p.LSN())
+	}
+	m.Pool().Put(0, 0)
 	is(t, "Commit", m.Commit(1), api.ErrWalFull)
 	is(t, "Abort", m.Abort(1), api.ErrWalFull)
 	is(t, "End", m.End(1), api.ErrWalFull)
@@ -605,11 +616,12 @@ func TestLoadOfStrangeWays(t *testing.T) {
 	late, _ := m.Log().Append(api.Rec{Kind: api.RecChange, Prev: 1 << 60, Change: c}, 0)
 	undo, _ := m.Log().Append(api.Rec{Kind: api.RecUndo, Next: 1 << 60}, 0)
 	check, _ := m.Log().Append(api.Rec{Kind: api.RecCheck}, 0)
+	commit, _ := m.Log().Append(api.Rec{Kind: api.RecCommit, Prev: own, Next: own}, 0)
 	behind, _ := m.Log().Append(api.Rec{Kind: api.RecChange, Prev: check, Change: c}, 0)
 	for _, w := range []struct {
 		undo    uint64
 		changes uint64
-	}{{own, 1}, {late, 1}, {undo, 0}, {check, 0}, {behind, 1}, {0, 0}, {2, 0}, {1 << 63, 0}} {
+	}{{own, 1}, {late, 1}, {undo, 0}, {check, 0}, {commit, 0}, {behind, 1}, {0, 0}, {2, 0}, {1 << 63, 0}} {
 		m := txn.Load(m.Log(), m.Pool(), []api.Active{{Txn: 7, Undo: w.undo, State: api.TxnRuns}}, 8)
 		if m.Reserved() != 54+w.changes*38 {
 			t.Errorf("UNDO %d: Reserved %d", w.undo, m.Reserved())
@@ -728,6 +740,40 @@ func TestAnyUse(t *testing.T) {
 				holds(t, m, page, at, want[[2]int{int(page), at}])
 			}
 			free(t, m, page)
+		}
+	}
+}
+
+// What is reserved is just enough for either end.
+func TestJustEnoughRoom(t *testing.T) {
+	for _, commits := range []bool{true, false} {
+		m := made(t, 8, 4, 3)
+		begin(t, m)
+		change(t, m, 1, 0, 0, "abc")
+		change(t, m, 1, 1, 0, "de")
+		for left := m.Log().Room() - m.Reserved(); left > 0; left = m.Log().Room() - m.Reserved() {
+			if left > 200 {
+				left = 100
+			} else if left > 100 {
+				left /= 2
+			}
+			c := api.Change{Has: true, After: make([]byte, left-36)}
+			if _, err := m.Log().Append(api.Rec{Kind: api.RecUndo, Change: c}, 0); err != api.OK {
+				t.Fatal(err)
+			}
+		}
+		if commits {
+			is(t, "Commit", m.Commit(1), api.OK)
+			holds(t, m, 0, 0, "abc")
+			if m.Log().Room() != 39+38 {
+				t.Errorf("room for %d bytes", m.Log().Room())
+			}
+		} else {
+			is(t, "Abort", m.Abort(1), api.OK)
+			holds(t, m, 0, 0, "")
+			if m.Log().Room() != 0 {
+				t.Errorf("room for %d bytes", m.Log().Room())
+			}
 		}
 	}
 }
