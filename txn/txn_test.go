@@ -751,17 +751,7 @@ func TestJustEnoughRoom(t *testing.T) {
 		begin(t, m)
 		change(t, m, 1, 0, 0, "abc")
 		change(t, m, 1, 1, 0, "de")
-		for left := m.Log().Room() - m.Reserved(); left > 0; left = m.Log().Room() - m.Reserved() {
-			if left > 200 {
-				left = 100
-			} else if left > 100 {
-				left /= 2
-			}
-			c := api.Change{Has: true, After: make([]byte, left-36)}
-			if _, err := m.Log().Append(api.Rec{Kind: api.RecUndo, Change: c}, 0); err != api.OK {
-				t.Fatal(err)
-			}
-		}
+		spend(t, m, m.Reserved())
 		if commits {
 			is(t, "Commit", m.Commit(1), api.OK)
 			holds(t, m, 0, 0, "abc")
@@ -776,4 +766,56 @@ func TestJustEnoughRoom(t *testing.T) {
 			}
 		}
 	}
+}
+
+// spend lets others fill the log till just so many bytes are left.
+func spend(t *testing.T, m *txn.Manager, room uint64) {
+	t.Helper()
+	for left := m.Log().Room() - room; left > 0; left = m.Log().Room() - room {
+		if left > 200 {
+			left = 100
+		} else if left > 100 {
+			left /= 2
+		}
+		c := api.Change{Has: true, After: make([]byte, left-36)}
+		if _, err := m.Log().Append(api.Rec{Kind: api.RecUndo, Change: c}, 0); err != api.OK {
+			t.Fatal(err)
+		}
+	}
+}
+
+// Where others filled the log, what has room is logged, and nothing more is done.
+func TestRoomForSomeRecords(t *testing.T) {
+	for _, c := range []struct {
+		room  uint64
+		end   func(*txn.Manager) api.Errno
+		kind  uint8
+		state uint8
+	}{
+		{27, func(m *txn.Manager) api.Errno { return m.Commit(1) }, api.RecCommit, 0},
+		{27, func(m *txn.Manager) api.Errno { return m.Abort(1) }, api.RecAbort, api.TxnAborts},
+		{27 + 37, func(m *txn.Manager) api.Errno { return m.Abort(1) }, api.RecUndo, api.TxnAborts},
+	} {
+		m := made(t, 8, 4, 3)
+		begin(t, m)
+		change(t, m, 1, 0, 0, "a")
+		spend(t, m, c.room)
+		is(t, "the end", c.end(m), api.ErrWalFull)
+		a := m.Active()
+		if len(a) != 1 || c.state != 0 && a[0].State != c.state || last(m, 1)[0].Rec.Kind != c.kind || a[0].Last != last(m, 1)[0].LSN || m.Log().Room() != 0 {
+			t.Errorf("room for %d bytes: %v, %v", c.room, a, last(m, 1))
+		}
+		if c.kind == api.RecCommit && m.Log().Lasts() != m.Log().End() {
+			t.Error("the RecCommit does not last")
+		}
+		free(t, m, 0)
+	}
+	m := made(t, 8, 4, 3)
+	begin(t, m)
+	change(t, m, 1, 0, 0, "a")
+	spend(t, m, 37)
+	if ok, err := m.Undo(1); !ok || err != api.OK {
+		t.Errorf("Undo: %v, %v", ok, err)
+	}
+	holds(t, m, 0, 0, "")
 }
