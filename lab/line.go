@@ -57,8 +57,8 @@ func (l *line) last() uint64 {
 	return n
 }
 
-// bytes takes bytes.
-func (l *line) bytes() []byte {
+// hex takes bytes.
+func (l *line) hex() []byte {
 	w := l.word()
 	if w == "-" {
 		return nil

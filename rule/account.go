@@ -26,8 +26,8 @@ func (w *work) mint() api.Reply {
 	return api.Reply{A: p.A}
 }
 
-// make is OpMake and OpUse.
-func (w *work) make() api.Reply {
+// create is OpMake and OpUse.
+func (w *work) create() api.Reply {
 	w.there(Purse(w.Who))
 	s := w.look(Stack(w.Who, w.What))
 	if w.Kind == api.OpMake {

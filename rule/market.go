@@ -151,7 +151,8 @@ func (w *work) bid() api.Reply {
 	return api.Reply{A: w.N}
 }
 
-func (w *work) close() api.Reply {
+// closeUp is OpClose.
+func (w *work) closeUp() api.Reply {
 	auction := w.there(Auction(w.ID))
 	seller, item := unpair(auction.A)
 	deny(seller != w.Who, api.ErrRuleOwn)
