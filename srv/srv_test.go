@@ -241,7 +241,7 @@ func (r *random) next(n int) int {
 }
 
 func (r *random) op() api.Op {
-	return api.Op{Kind: uint8(r.next(18) + 1), Who: uint32(r.next(5)), Whom: uint32(r.next(5)), What: uint32(r.next(8)), ID: uint32(r.next(4)), N: uint64(r.next(20)), Price: uint64(r.next(20))}
+	return api.Op{Kind: uint8(r.next(18) + 1), Who: uint32(r.next(8)), Whom: uint32(r.next(8)), What: uint32(r.next(8)), ID: uint32(r.next(4)), N: uint64(r.next(20)), Price: uint64(r.next(20))}
 }
 
 func (r *random) fates(s *srv.Server) []api.Fate {
@@ -283,6 +283,9 @@ func after(t *testing.T, w []api.Cell, l []api.Done) []api.Cell {
 	m := model.Of(w)
 	for _, x := range l {
 		for i, op := range x.Ops {
+			if e := x.Replies[i].Err; e == api.ErrWalFull || e == api.ErrAllocFull {
+				continue // the device was too small for it: nothing was done
+			}
 			if got := m.Do(op); got != x.Replies[i] {
 				t.Fatalf("transaction %d was answered %v, not %v", x.Txn, x.Replies[i], got)
 			}
@@ -293,9 +296,16 @@ func after(t *testing.T, w []api.Cell, l []api.Done) []api.Cell {
 
 // For any requests, steps, writes and checkpoints, any halt, whatever crashes leave, and restarts that are broken off: the world is what the model makes of those that were committed.
 func TestWhatWasCommittedIsThere(t *testing.T) {
-	for seed := range 60 {
+	for seed := range 90 {
 		r := random(seed)
-		s := made(t, 100, 40, 3+r.next(6), 4)
+		strips, pages := 100, 40
+		switch seed % 3 {
+		case 1:
+			strips = 8 + r.next(30) // the log is full soon
+		case 2:
+			pages = 10 + r.next(4) // the pages are
+		}
+		s := made(t, strips, pages, 3+r.next(6), 4)
 		var was []api.Cell
 		for range 5 {
 			if r.next(4) > 0 {
@@ -317,7 +327,7 @@ func TestWhatWasCommittedIsThere(t *testing.T) {
 					}
 				}
 				if r.next(6) == 0 {
-					s.Write(uint32(r.next(40)))
+					s.Write(uint32(r.next(pages)))
 				}
 				if r.next(40) == 0 {
 					s.Check()
@@ -332,7 +342,7 @@ func TestWhatWasCommittedIsThere(t *testing.T) {
 			for range r.next(3) {
 				s.Dev().Crash(r.fates(s))
 				s.Dev().Halt(r.next(150))
-				redo.Restart(s.Dev(), 40, 3)
+				redo.Restart(s.Dev(), pages, 3)
 			}
 			if _, err := s.Crash(r.fates(s)); err != api.OK {
 				t.Fatalf("seed %d: Crash: %v", seed, err)
